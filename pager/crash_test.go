@@ -151,14 +151,63 @@ func TestCutAnywhere(t *testing.T) {
 // openedCut opens a disk with the power going within that, again and again.
 func openedCut(t *testing.T, d *sector.Disk, choices []uint8, want string) {
 	t.Helper()
-	for at := 1; at < 18; at += 4 {
+	for at := 1; ; at++ {
 		d.Power(at)
-		if _, e := Open(d, key); e != api.ErrPower {
-			t.Fatalf("P7.3: Open at step %d: %v", at, e)
+		_, e := Open(d, key)
+		if e == api.OK && at > 2 {
+			return
 		}
+		is(t, fmt.Sprintf("P7.3: Open cut off at step %d", at), e, api.ErrPower)
 		d.Crash(choices)
 		if got := toldBy(d, key); got != want {
 			t.Fatalf("P7.3: Open cut off at step %d: %s\nwant\n%s", at, got, want)
+		}
+	}
+}
+
+// halfUsed is a pager of which each second page was used at the last Commit; then others are written, and some are freed.
+func halfUsed(t *testing.T, pages int) (*sector.Disk, *Pager) {
+	d := diskOf(pages)
+	p := format(t, d, key)
+	for i := range pages {
+		put(t, p, fmt.Sprint("old ", i))
+	}
+	for i := 1; i < pages; i += 2 {
+		is(t, "P7.2: Free", p.Free(uint32(i)), api.OK)
+	}
+	commit(t, p, 1, "old")
+	for i := 0; i < pages; i += 6 {
+		is(t, "P7.2: Free", p.Free(uint32(i)), api.OK)
+	}
+	for i := range pages / 3 {
+		put(t, p, fmt.Sprint("new ", i))
+	}
+	return d, p
+}
+
+// P7.3, P7.4: a Commit of many pages, cut off at each step: what there was, or what it makes.
+func TestCutCommitOfMany(t *testing.T) {
+	for pages, tries := range map[int]int{30: 34, 97: 12, 400: 3} {
+		d, p := halfUsed(t, pages)
+		was := toldBy(d, key)
+		commit(t, p, 2, "new")
+		behind := told(p)
+		for at := 1; ; at++ {
+			d, p := halfUsed(t, pages)
+			d.Power(at)
+			if p.Commit(2, "new") == api.OK {
+				if at < 8 {
+					t.Fatalf("P7.3: a Commit of %d steps", at)
+				}
+				break
+			}
+			for i := range tries {
+				c := d.Copy()
+				c.Crash(leftovers()[(i*at)%34])
+				if got := toldBy(c, key); got != was && got != behind {
+					t.Fatalf("P7.3: %d pages, step %d, leftover %d: %s", pages, at, i, got)
+				}
+			}
 		}
 	}
 }
@@ -308,9 +357,11 @@ func lookAt(t *testing.T, s seen, before, after *sector.Disk, id uint32) {
 func TestSuperNonces(t *testing.T) {
 	s := seen{}
 	note := func(d *sector.Disk) {
-		for b := range slices.Chunk(asWritten(d)[:2048], 1024) {
-			if blockOf(keysOf(key), 5, b).valid {
-				s.once(t, fmt.Sprintf("%x", b[4:16]), b[16:])
+		area := asWritten(d)[:2048]
+		for i, b := range groundOf(keysOf(key), 5, area).both {
+			if b.valid {
+				stands := area[blockFrom(i):][:blockSize]
+				s.once(t, fmt.Sprintf("%x", stands[8:20]), stands[20:])
 			}
 		}
 	}
@@ -320,7 +371,7 @@ func TestSuperNonces(t *testing.T) {
 		p := format(t, d, key)
 		for i := range 40 {
 			if r.Intn(2) == 0 {
-				d.Power(16 + r.Intn(4))
+				d.Power(1 + r.Intn(8))
 			}
 			e := p.Commit(uint32(i), fmt.Sprint("meta", r.Intn(1000)))
 			note(d)

@@ -1,6 +1,7 @@
 package pager
 
 import (
+	"bytes"
 	"slices"
 
 	"sacristy/api"
@@ -12,7 +13,6 @@ import (
 const (
 	pageSectors = api.PageSize / api.SectorSize
 	genSize     = 8
-	genBits     = 8 * genSize
 	lengthSize  = 2
 	textSize    = lengthSize + api.MaxPlain
 	sealedSize  = textSize + len(api.Tag{})
@@ -24,17 +24,11 @@ type index [4]byte
 
 // state of a used page.
 type state struct {
-	gen   uint64 // that it was written with
-	known int    // how many of gen's lowest bits are known; none: it was never written
+	gen uint64 // that it was written with; 0: it was never written
 }
 
 func (s state) written() bool {
-	return s.known > 0
-}
-
-// has tells whether gen is the one that the page was written with, as far as it is known.
-func (s state) has(gen uint64) bool {
-	return (s.gen^gen)<<(genBits-s.known) == 0
+	return s.gen > 0
 }
 
 func indexOf(id uint32) index {
@@ -57,7 +51,7 @@ func pageBytes(k api.Key, id uint32, gen uint64, plain []byte) []byte {
 
 func plainOf(k api.Key, id uint32, s state, page []byte) ([]byte, api.Errno) {
 	gen, sealed, _ := bits.Get(page, genSize)
-	if !s.has(gen) {
+	if gen != s.gen {
 		return nil, api.ErrSeal
 	}
 	text, e := seal.Open(k, seal.NonceOf(id, gen), []byte(pageAad), sealed[:sealedSize])
@@ -96,4 +90,19 @@ func writeSectors(d *sector.Disk, from int, b []byte) api.Errno {
 		from++
 	}
 	return api.OK
+}
+
+// rewriteArea writes those of the first sectors that are unlike what stands there, and flushes them.
+func rewriteArea(d *sector.Disk, stands, area []byte) api.Errno {
+	for i := range superSectors {
+		at := i * api.SectorSize
+		part := area[at:][:api.SectorSize]
+		if bytes.Equal(part, stands[at:][:api.SectorSize]) {
+			continue
+		}
+		if e := d.Write(i, part); e != api.OK {
+			return e
+		}
+	}
+	return d.Flush()
 }

@@ -7,25 +7,31 @@ import (
 	"sacristy/seal"
 )
 
+// The first sectors are: a superblock, the table of the pages' gens, the other superblock.
+// Both superblocks share the table, as there is no room for the gens of all pages twice. They can: a page that was used
+// at the last Commit isn't written until the next one, so that it has one gen in both; and the gen of a page that wasn't
+// is asked for by the new superblock alone.
 const (
 	superSectors = 32
-	blockSectors = superSectors / 2
-	blockSize    = blockSectors * api.SectorSize
-	editionSize  = 4
-	nonceSize    = len(api.Nonce{})
-	rootSize     = 4
-	maxMeta      = 200
-	bodySize     = blockSize - editionSize - nonceSize - len(api.Tag{})
-	cellsSize    = bodySize - rootSize - lengthSize - maxMeta
+	areaSize     = superSectors * api.SectorSize
+	// The bits of a gen that there is room for. With them it is known whole, as 2^29 gens are never taken: a page's costs
+	// eight steps of the disk, a superblock's seven, and at most as many again as pages took are left out by crashes.
+	lowBits    = 29
+	tableSize  = (api.MaxPages*lowBits + 7) / 8
+	blockSize  = (areaSize - tableSize) / 2
+	limitSize  = 8
+	nonceSize  = len(api.Nonce{})
+	rootSize   = 4
+	maxMeta    = 200
+	marksSize  = (api.MaxPages + 7) / 8
+	sealedFrom = limitSize + nonceSize
+	bodySize   = blockSize - sealedFrom - len(api.Tag{})
 
 	pageLabel  = "page"
 	superLabel = "super"
 
-	// No disk lives through as many editions: where more are told something else stands there.
-	mostEditions = 1 << 31
-	// More gens than an edition can need; and a bit more, so that the lowest bits of the gens of one edition, too,
-	// aren't those of the next one, which are all that a superblock of many pages has room for.
-	gensOfEdition = 1<<32 + api.MaxPages + 1
+	// No disk lives through as many gens: where more are told something else stands there.
+	mostGens = 1 << 60
 )
 
 // keys that are derived from a pager's.
@@ -49,126 +55,163 @@ type super struct {
 }
 
 // block: what stands in one of the two places; valid, if it is a superblock of the key.
-// Its edition stands there in the clear: it goes on from one key to another.
+// Its limit is above all gens that were taken, and above the elder superblock's. It stands there in the clear: it goes
+// on from one key to another.
 type block struct {
-	edition uint32
-	valid   bool
-	body    []byte
+	limit uint64
+	valid bool
+	super super
 }
 
-func firstGen(edition uint32) uint64 {
-	return uint64(edition) * gensOfEdition
+// ground: what stands in the first sectors.
+type ground struct {
+	area []byte
+	both [2]block
 }
 
-// superBytes: the nonce is made of all that is sealed, as an edition that a crash cut off may come again with other things.
-func superBytes(k keys, edition uint32, pages int, s super) []byte {
-	body := append(bits.Put(nil, uint64(s.root), rootSize), bits.Text(nil, s.meta)...)
-	body = filledUp(append(body, cellsOf(pages, s.pages)...), bodySize)
-	aad := superAad(edition, pages)
-	sum := mac.Mac(k.nonce[:], append(superAad(edition, pages), body...))
-	nonce := api.Nonce(sum[:nonceSize])
-	b := append(bits.Put(nil, uint64(edition), editionSize), nonce[:]...)
-	return append(b, seal.Seal(k.super, nonce, aad, body)...)
-}
-
-func blockOf(k keys, pages int, b []byte) block {
-	edition := bits.Big(b)
-	nonce := api.Nonce(b[editionSize:][:nonceSize])
-	body, e := seal.Open(k.super, nonce, superAad(edition, pages), b[editionSize+nonceSize:])
-	return block{edition: edition, valid: e == api.OK, body: body}
-}
-
-func superOf(pages int, body []byte) super {
-	root, rest, _ := bits.Get(body, rootSize)
-	meta, cells, _ := bits.GetText(rest, maxMeta)
-	return super{root: uint32(root), meta: meta, pages: statesOf(pages, cells)}
-}
-
-func superAad(edition uint32, pages int) []byte {
-	aad := bits.Put([]byte(superLabel), uint64(edition), editionSize)
-	return bits.Put(aad, uint64(pages), lengthSize)
-}
-
-func blocksOf(k keys, pages int, area []byte) [2]block {
-	return [2]block{blockOf(k, pages, area[:blockSize]), blockOf(k, pages, area[blockSize:])}
+func groundOf(k keys, pages int, area []byte) ground {
+	return ground{area: area, both: [2]block{blockOf(k, pages, area, 0), blockOf(k, pages, area, 1)}}
 }
 
 // newest is the place of the newest superblock of the key, or -1.
-func newest(both [2]block) int {
+func (g ground) newest() int {
 	at := -1
-	for i, b := range both {
-		if b.valid && (at < 0 || b.edition > both[at].edition) {
+	for i, b := range g.both {
+		if b.valid && (at < 0 || b.limit > g.both[at].limit) {
 			at = i
 		}
 	}
 	return at
 }
 
-// next tells in which place the next superblock is to be written, and its edition.
-func next(both [2]block) (int, uint32) {
-	if at := newest(both); at >= 0 {
-		return 1 - at, both[at].edition + 1
+// next tells in which place the next superblock is to be written, and the limit of the one ahead of it.
+func (g ground) next() (int, uint64) {
+	if at := g.newest(); at >= 0 {
+		return 1 - at, g.both[at].limit
 	}
 	// There may be another key's: its elder one goes first, else a cut would leave that as if it were its last.
-	at := 0
-	if both[1].edition < both[0].edition {
-		at = 1
+	if g.both[1].limit < g.both[0].limit {
+		return 1, 0
 	}
-	return at, 1 + max(likely(both[0].edition), likely(both[1].edition))
+	return 0, 0
 }
 
-func likely(edition uint32) uint32 {
-	if edition >= mostEditions {
-		return 0
-	}
-	return edition
-}
-
-// keptBits: how many of a gen's lowest bits a superblock has room for, beside the one that tells that a page is used.
-func keptBits(pages int) int {
-	return min(8*cellsSize/pages-1, genBits)
-}
-
-// cellsOf tells of each page whether it is used, and the lowest bits of its gen.
-func cellsOf(pages int, states map[index]state) []byte {
-	cells := make([]byte, cellsSize)
-	kept := keptBits(pages)
-	for id := range pages {
-		s, used := states[indexOf(uint32(id))]
-		if !used {
-			continue
+// limit is above all gens that were taken for pages, with whatever key.
+func (g ground) limit() uint64 {
+	limit := uint64(1)
+	for _, b := range g.both {
+		if b.valid || b.limit < mostGens {
+			limit = max(limit, b.limit+1)
 		}
-		at := id * (1 + kept)
-		putBits(cells, at, 1, 1)
-		putBits(cells, at+1, s.gen, kept)
 	}
-	return cells
+	return limit
 }
 
-func statesOf(pages int, cells []byte) map[index]state {
+// withGens is the area with the gens of these pages in its table; the others' stay.
+func withGens(area []byte, pages map[index]state) []byte {
+	out := filledUp(area, areaSize)
+	for i, s := range pages {
+		putBits(out[blockSize:], int(bits.Big(i[:]))*lowBits, s.gen, lowBits)
+	}
+	return out
+}
+
+// withBlock is the area with that superblock in that place.
+func withBlock(area []byte, at int, b []byte) []byte {
+	out := filledUp(area, areaSize)
+	copy(out[blockFrom(at):], b)
+	return out
+}
+
+func blockFrom(at int) int {
+	return at * (areaSize - blockSize)
+}
+
+func blockBytes(k keys, pages int, limit uint64, s super) []byte {
+	body := bodyOf(s)
+	nonce := superNonce(k, pages, limit, body, s.pages)
+	b := append(bits.Put(nil, limit, limitSize), nonce[:]...)
+	return append(b, seal.Seal(k.super, nonce, superAad(pages, limit), body)...)
+}
+
+func blockOf(k keys, pages int, area []byte, at int) block {
+	b := area[blockFrom(at):][:blockSize]
+	limit, _, _ := bits.Get(b[:limitSize], limitSize)
+	nonce := api.Nonce(b[limitSize:sealedFrom])
+	body, e := seal.Open(k.super, nonce, superAad(pages, limit), b[sealedFrom:])
+	if e != api.OK {
+		return block{limit: limit}
+	}
+	s := superOf(pages, limit, body, area[blockSize:])
+	return block{limit: limit, valid: nonce == superNonce(k, pages, limit, body, s.pages), super: s}
+}
+
+// superNonce is made of all that a superblock tells: one that a crash cut off may come again with other things, and the
+// gens, which aren't sealed with it, must be those that it was made with.
+func superNonce(k keys, pages int, limit uint64, body []byte, states map[index]state) api.Nonce {
+	all := append(superAad(pages, limit), body...)
+	for id := range uint32(pages) {
+		if s, used := states[indexOf(id)]; used {
+			gen := bits.Put(nil, s.gen, genSize)
+			all = append(all, gen...)
+		}
+	}
+	sum := mac.Mac(k.nonce[:], all)
+	return api.Nonce(sum[:nonceSize])
+}
+
+func superAad(pages int, limit uint64) []byte {
+	aad := bits.Put([]byte(superLabel), limit, limitSize)
+	return bits.Put(aad, uint64(pages), lengthSize)
+}
+
+func bodyOf(s super) []byte {
+	body := append(bits.Put(nil, uint64(s.root), rootSize), marksOf(s.pages)...)
+	return filledUp(bits.Text(body, s.meta), bodySize)
+}
+
+func superOf(pages int, limit uint64, body, table []byte) super {
+	root, rest, _ := bits.Get(body, rootSize)
+	meta, _, _ := bits.GetText(rest[marksSize:], maxMeta)
+	return super{root: uint32(root), meta: meta, pages: statesOf(pages, limit, rest[:marksSize], table)}
+}
+
+// marksOf tells of each page by a bit whether it is used.
+func marksOf(states map[index]state) []byte {
+	marks := make([]byte, marksSize)
+	for i := range states {
+		putBits(marks, int(bits.Big(i[:])), 1, 1)
+	}
+	return marks
+}
+
+func statesOf(pages int, limit uint64, marks, table []byte) map[index]state {
 	states := map[index]state{}
-	kept := keptBits(pages)
 	for id := range pages {
-		at := id * (1 + kept)
-		if getBits(cells, at, 1) == 1 {
-			states[indexOf(uint32(id))] = state{gen: getBits(cells, at+1, kept), known: kept}
+		if getBits(marks, id, 1) == 1 {
+			states[indexOf(uint32(id))] = state{gen: genBelow(limit, getBits(table, id*lowBits, lowBits))}
 		}
 	}
 	return states
 }
 
-// putBits expects noughts there.
+// genBelow is the greatest gen below a limit that has those lowest bits.
+func genBelow(limit, low uint64) uint64 {
+	last := limit - 1
+	return last - (last-low)&(1<<lowBits-1)
+}
+
 func putBits(b []byte, at int, n uint64, size int) {
 	for i := range size {
-		bit := byte(n>>(size-1-i)) & 1
-		b[(at+i)/8] |= bit << ((at + i) % 8)
+		place, shift := (at+i)/8, (at+i)%8
+		b[place] = b[place]&^(1<<shift) | byte(n>>i)&1<<shift
 	}
 }
 
 func getBits(b []byte, at, size int) uint64 {
 	n := uint64(0)
 	for i := range size {
-		n = n<<1 | uint64(b[(at+i)/8]>>((at+i)%8)&1)
+		n |= uint64(b[(at+i)/8]>>((at+i)%8)&1) << i
 	}
 	return n
 }
