@@ -299,6 +299,37 @@ func TestACopyGoesItsOwnWay(t *testing.T) {
 	wantPaths(t, "the first", n, "", "a", "a/b", "n")
 }
 
+// What each has is told, is copied, and goes with it: what is made anew has nothing in it.
+func TestWhatOneHasGoesWithIt(t *testing.T) {
+	n := grown(t, "a", "a/b")
+	for p, s := range n.Spaces {
+		s.Bytes, s.Entries, s.OwnBytes, s.OwnEntries = 10, 11, 12, 13
+		n.Spaces[p] = s
+	}
+	b := api.Space{Path: "a/b", MaxBytes: 101, MaxEntries: 201, Bytes: 10, Entries: 11}
+	if s, _ := n.Get("a/b"); s != b || n.All()[2] != b {
+		t.Errorf("P16.1: what it has isn't told: %v, %v", s, n.All())
+	}
+	c := n.Copy()
+	if !slices.Equal(c.All(), n.All()) {
+		t.Errorf("P16.1: copied: %v, not %v", c.All(), n.All())
+	}
+	for p, s := range c.Spaces {
+		if s != n.Spaces[p] {
+			t.Errorf("P16.1: copied: %v, not %v", s, n.Spaces[p])
+		}
+		s.OwnBytes = 14
+		c.Spaces[p] = s
+	}
+	n.Remove("a")
+	want(t, "Add again", n.Add("a", 100, 200), api.OK)
+	for _, s := range n.Spaces {
+		if s.Path == "a" && s != (space{Space: api.Space{Path: "a", MaxBytes: 100, MaxEntries: 200}}) || s.Path == "" && s.OwnBytes != 12 {
+			t.Errorf("P16.1: anew: %v", s)
+		}
+	}
+}
+
 func TestListsAreNewMemory(t *testing.T) {
 	n := full(t)
 	all, kids := n.All(), n.Kids(ten)
@@ -345,7 +376,7 @@ func TestWhatIsHandedInIsntKept(t *testing.T) {
 			}
 		}
 	}
-	for p := range n.spaces {
+	for p := range n.Spaces {
 		if p != root() && (lies(p.parent) || lies(p.last)) {
 			t.Errorf("rule 3: the place %q lies in what was handed in", p)
 		}

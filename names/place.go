@@ -3,8 +3,16 @@ package names
 import (
 	"strings"
 
+	"sacristy/api"
 	"sacristy/path"
 )
+
+// space is a namespace as it is told, and how much of what it has is its own, of none under it: that goes with it too,
+// and into copies.
+type space struct {
+	api.Space
+	OwnBytes, OwnEntries int
+}
 
 // place is where a namespace stands: its parent's path, and its own last segment ("" of the root alone). Each path is
 // one place, so that places can be compared and be the keys of maps.
